@@ -1,0 +1,1 @@
+"""Regroups: products bracketed anew by one rule, for all ways at once."""

@@ -1,0 +1,103 @@
+"""Groupings to try, and slow ways, straight from the definitions, to tell what is so of them."""
+
+from itertools import product
+
+
+def all_groupings(first, last):
+    """All groupings of the factors from first to last, which keep their numbers."""
+    if first == last:
+        return [first]
+    return [(left, right)
+            for join in range(first, last)
+            for left in all_groupings(first, join)
+            for right in all_groupings(join + 1, last)]
+
+
+def small_groupings(most=7):
+    return [grouping for factors in range(1, most + 1) for grouping in all_groupings(1, factors)]
+
+
+def cut_by(first, last, rule):
+    """The grouping of these factors whose joins the rule (first, last) -> join chooses."""
+    if first == last:
+        return first
+    join = rule(first, last)
+    return cut_by(first, join, rule), cut_by(join + 1, last, rule)
+
+
+def large_groupings():
+    """Groupings of 8 to 30 factors of many shapes, the same ones each time."""
+    rules = [lambda first, last: first,
+             lambda first, last: last - 1,
+             lambda first, last: (first + last) // 2,
+             lambda first, last: first if (last - first) % 2 else last - 1]
+    rules += [lambda first, last, seed=seed: first + (first * 37 + last * 101 + seed * 53) * 7919 % (last - first)
+              for seed in range(12)]
+    return [cut_by(1, factors, rule) for factors in (8, 9, 12, 17, 23, 29, 30) for rule in rules]
+
+
+def factors_of(part):
+    """The factors of a part, in their order."""
+    if isinstance(part, int):
+        return [part]
+    return factors_of(part[0]) + factors_of(part[1])
+
+
+def pairs_of(part):
+    """(join, start, reach) for each pair of a part, by their joins."""
+    if isinstance(part, int):
+        return []
+    left, right = part
+    own = (factors_of(left)[-1], factors_of(left)[0], factors_of(right)[-1])
+    return sorted([own] + pairs_of(left) + pairs_of(right))
+
+
+def reaches_of(grouping):
+    return tuple(reach for join, start, reach in pairs_of(grouping))
+
+
+def starts_of(grouping):
+    return tuple(start for join, start, reach in pairs_of(grouping))
+
+
+def steps_of(part):
+    """{join: (grouping behind, join whose start rises, bracket that goes, bracket that comes)}."""
+    if isinstance(part, int):
+        return {}
+    left, right = part
+    found = {}
+    for join, (behind, risen, goes, comes) in steps_of(left).items():
+        found[join] = ((behind, right), risen, goes, comes)
+    for join, (behind, risen, goes, comes) in steps_of(right).items():
+        found[join] = ((left, behind), risen, goes, comes)
+    if not isinstance(left, int):
+        near, mid = left
+        ends = factors_of(near), factors_of(mid), factors_of(right)
+        found[ends[0][-1]] = ((near, (mid, right)), ends[1][-1],
+                              (ends[0][0], ends[1][-1]), (ends[1][0], ends[2][-1]))
+    return found
+
+
+def turned_over(part, factors):
+    """The part from behind."""
+    if isinstance(part, int):
+        return factors + 1 - part
+    return turned_over(part[1], factors), turned_over(part[0], factors)
+
+
+def rows_of(length, least, most):
+    """All tuples of so many numbers from least to most."""
+    return list(product(range(least, most + 1), repeat=length))
+
+
+def as_lists(value):
+    """The same with a list for each tuple, at any depth."""
+    return [as_lists(item) for item in value] if isinstance(value, tuple) else value
+
+
+def lists_mixed_in(value, deep=0):
+    """The same with a list for each tuple at every second depth."""
+    if not isinstance(value, tuple):
+        return value
+    items = [lists_mixed_in(item, deep + 1) for item in value]
+    return tuple(items) if deep % 2 else items
