@@ -1,5 +1,6 @@
 """Groupings to try, and slow ways, straight from the definitions, to tell what is so of them."""
 
+from functools import lru_cache
 from itertools import product
 
 
@@ -101,3 +102,54 @@ def lists_mixed_in(value, deep=0):
         return value
     items = [lists_mixed_in(item, deep + 1) for item in value]
     return tuple(items) if deep % 2 else items
+
+
+def nexts_of(grouping):
+    """The groupings behind one step."""
+    return [row[0] for row in steps_of(grouping).values()]
+
+
+@lru_cache(maxsize=None)
+def led_to(grouping):
+    """All groupings that come of this one by some steps, maybe none."""
+    found = {grouping}
+    for behind in nexts_of(grouping):
+        found |= led_to(behind)
+    return frozenset(found)
+
+
+def pairs_in_order(factors):
+    """All pairs of groupings of which the first one leads to the second."""
+    every = all_groupings(1, factors)
+    return [(one, other) for one in every for other in every if other in led_to(one)]
+
+
+def listed_between(low, high):
+    """All groupings between two, ascending by their reaches."""
+    return sorted((grouping for grouping in led_to(low) if high in led_to(grouping)), key=reaches_of)
+
+
+def routes_between(one, other):
+    """All routes from one to other, as lists."""
+    found = [[one]] if one == other else []
+    for behind in nexts_of(one):
+        if other in led_to(behind):
+            found += [[one] + rest for rest in routes_between(behind, other)]
+    return found
+
+
+def walked_from(grouping, seed, many):
+    """A grouping that comes of this one by so many steps, if there are so many, the same one each time."""
+    for at in range(many):
+        behind = nexts_of(grouping)
+        if not behind:
+            break
+        grouping = behind[(seed * 31 + at * 17 + seed * at) % len(behind)]
+    return grouping
+
+
+def large_pairs():
+    """Pairs of groupings of 8 to 30 factors of which the first one leads to the second."""
+    return [(grouping, walked_from(grouping, seed, many))
+            for seed, grouping in enumerate(large_groupings())
+            for many in (0, 1, 2 + seed % 7, 40)]

@@ -17,6 +17,33 @@ INTERFACE = {
         "open_joins(grouping)", "step_at(grouping, join)", "nexts(grouping)", "back_joins(grouping)",
         "step_back(grouping, join)", "aheads(grouping)", "step_brackets(grouping, join)", "by_steps(grouping, joins)",
     ),
+    "order": (
+        "leads_to(one, other)", "why_not(one, other)", "is_between(low, grouping, high)", "stand_of(one, other)",
+        "unlike_joins(one, other)", "greatest_ahead(groupings)", "least_behind(groupings)", "least_with(one, goal)",
+        "greatest_with(one, goal)", "first_ones(groupings)", "last_ones(groupings)",
+    ),
+    "routes": (
+        "fewest_steps(one, other)", "most_steps(one, other)", "hops(one, other)", "sure_reaches(one, other, join)",
+        "possible_reaches(one, other, join)", "route(one, other, many=None)", "is_route(one, other, thing)",
+        "next_joins(one, other)", "by_joins(one, joins)", "joins_of(groupings)", "on_fewest(one, grouping, other)",
+        "on_most(one, grouping, other)",
+    ),
+    "counts": (
+        "how_many(factors)", "with_first_reach(factors, goal)", "with_last_join(factors, join)",
+        "with_one_bracket(factors, first, last)", "with_open_joins(factors, many)",
+        "with_joins_from_one(factors, many)", "steps_in_all(factors)", "leading_pairs(factors)", "by_longest(factors)",
+        "many_behind(grouping)", "many_ahead(grouping)",
+    ),
+}
+
+# For each class: its file, its properties without setters, its methods. The names of the parameters
+# of operators are free.
+CLASSES = {
+    "Between": ("between", ("low", "high", "many", "steps", "weight"), (
+        "__init__(self, low, high)", "number_of(self, grouping)", "every(self, *, most=2000)",
+        "how_many_have(self, first, last)", "share(self, first, last)", "how_many_reach(self, join, goal)",
+        "reaches_of(self, join)", "__eq__(self, other)", "__getitem__", "__contains__", "__iter__",
+    )),
 }
 
 
@@ -30,6 +57,19 @@ class InterfaceTest(unittest.TestCase):
                 self.assertTrue(inspect.isfunction(function), heading)
                 self.assertEqual(function.__module__, f"regroups.{file_name}")
                 self.assertEqual(name + str(inspect.signature(function)), heading)
+
+    def test_classes_stand_in_their_files_with_their_own_methods(self):
+        for class_name, (file_name, properties, headings) in CLASSES.items():
+            own = getattr(importlib.import_module(f"regroups.{file_name}"), class_name)
+            self.assertEqual((own.__module__, own.__bases__), (f"regroups.{file_name}", (object,)))
+            for name in properties:
+                self.assertIsInstance(vars(own)[name], property)
+                self.assertIsNone(vars(own)[name].fset)
+            for heading in headings:
+                method = vars(own)[heading.partition("(")[0]]
+                self.assertTrue(inspect.isfunction(method), heading)
+                if "(" in heading:
+                    self.assertEqual(method.__name__ + str(inspect.signature(method)), heading)
 
     def test_bounds_are_no_walls(self):
         deep = (1, 2)

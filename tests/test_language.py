@@ -22,6 +22,7 @@ LIBRARY = {
 }
 BARRED_NODES = (ast.Global, ast.AsyncFunctionDef, ast.AsyncFor, ast.AsyncWith, ast.Await, ast.Div, ast.Import)
 BARRED_WORDS = re.compile(r"\b(type|typing|enum|Enum|Flag|Generic|Protocol|ABC|namedtuple|NamedTuple)\b|dataclass")
+TAKES_LISTS = {"any", "all", "min", "max", "sum", "sorted"}
 KEPT_CALLS = {"zip", "enumerate", "reversed", "items", "keys", "values"}
 
 
@@ -104,6 +105,13 @@ class LanguageTest(unittest.TestCase):
                 if isinstance(node, ast.Return) and isinstance(node.value, ast.Call):
                     name = getattr(node.value.func, "id", getattr(node.value.func, "attr", None))
                     self.assertNotIn(name, KEPT_CALLS | {"range"}, path.name)
+
+    def test_what_is_called_over_all_takes_a_list(self):
+        for path in package_files():
+            for node in nodes_of(path):
+                if isinstance(node, ast.Call) and getattr(node.func, "id", None) in TAKES_LISTS:
+                    for value in node.args:
+                        self.assertNotIsInstance(value, ast.GeneratorExp, path.name)
 
     def test_names(self):
         for path in package_files():

@@ -1,0 +1,96 @@
+"""In how many ways stretches of factors can be bracketed if the reach of each join lies between two bounds."""
+
+from math import gcd
+
+
+def lowest_terms(part, whole):
+    """Make the fraction part by whole."""
+    shared = gcd(part, whole)
+    return part // shared, whole // shared
+
+
+def ways_within(lows, highs):
+    """Count, at [first][last], the groupings of these factors alone whose reaches keep to the bounds."""
+    factors = len(lows) + 1
+    within = [[0] * (factors + 1) for _ in range(factors + 1)]
+    for first in range(factors, 0, -1):
+        within[first][first] = 1
+        for last in range(first + 1, factors + 1):
+            # Behind the reach of the first join all up to it is like one factor.
+            ends = range(lows[first - 1], min(highs[first - 1], last) + 1)
+            within[first][last] = sum([within[first + 1][end] * within[end][last] for end in ends])
+    return within
+
+
+def ways_around(lows, highs, within):
+    """Count, at [first][last], in how many ways all is bracketed around a part of just these factors."""
+    factors = len(lows) + 1
+    around = [[0] * (factors + 1) for _ in range(factors + 1)]
+    around[1][factors] = 1
+    for first in range(1, factors + 1):
+        for last in range(factors, first, -1):
+            here = around[first][last]
+            for join in joins_for(lows, highs, first, last):
+                around[first][join] = around[first][join] + here * within[join + 1][last]
+                around[join + 1][last] = around[join + 1][last] + here * within[first][join]
+    return around
+
+
+def joins_for(lows, highs, first, last):
+    """List the joins that may be the one of the pair with these factors."""
+    return [join for join in range(first, last) if lows[join - 1] <= last <= highs[join - 1]]
+
+
+def rows_at(lows, within, number):
+    """Tell the reaches with this number among all that keep to the bounds, ascending from 0."""
+    factors = len(lows) + 1
+    rows = list(lows)
+    waiting = [(1, factors, number)]
+    while waiting:
+        first, last, number_here = waiting.pop()
+        if first < last:
+            end = lows[first - 1]
+            while number_here >= within[first + 1][end] * within[end][last]:
+                number_here = number_here - within[first + 1][end] * within[end][last]
+                end += 1
+            rows[first - 1] = end
+            inner_number, outer_number = divmod(number_here, within[end][last])
+            waiting.append((first + 1, end, inner_number))
+            waiting.append((end, last, outer_number))
+    return tuple(rows)
+
+
+def number_of_rows(lows, within, rows):
+    """Tell the number of these reaches among all that keep to the bounds, ascending from 0."""
+    number = 0
+    waiting = [(1, len(lows) + 1, 1)]
+    while waiting:
+        first, last, weight = waiting.pop()
+        if first < last:
+            end = rows[first - 1]
+            lesser = [within[first + 1][other] * within[other][last] for other in range(lows[first - 1], end)]
+            number = number + weight * sum(lesser)
+            waiting.append((first + 1, end, weight * within[end][last]))
+            waiting.append((end, last, weight))
+    return number
+
+
+def steps_within(lows, highs, within, around):
+    """Count the steps from a grouping that keeps to the bounds to another one that does."""
+    factors = len(lows) + 1
+    found = 0
+    for first in range(1, factors + 1):
+        for last in range(first + 2, factors + 1):
+            found = found + around[first][last] * _step_ways(lows, highs, within, first, last)
+    return found
+
+
+def _step_ways(lows, highs, within, first, last):
+    """Count the steps at the pair of just these factors, all within it taken as it may be."""
+    found = 0
+    for outer in joins_for(lows, highs, first, last):
+        for inner in joins_for(lows, highs, first, outer):
+            # Behind the step the inner join reaches as far as the whole pair.
+            if last <= highs[inner - 1]:
+                found = found + within[first][inner] * within[inner + 1][outer] * within[outer + 1][last]
+    return found
