@@ -26,6 +26,11 @@ def cut_by(first, last, rule):
     return cut_by(first, join, rule), cut_by(join + 1, last, rule)
 
 
+def halved(first, last):
+    """The grouping of these factors that is cut in the middle again and again."""
+    return cut_by(first, last, lambda first, last: (first + last) // 2)
+
+
 def large_groupings():
     """Groupings of 8 to 30 factors of many shapes, the same ones each time."""
     rules = [lambda first, last: first,

@@ -10,7 +10,7 @@ from regroups.groupings import (
 )
 from tests.examples import run_examples
 from tests.samples import (
-    all_groupings, as_lists, factors_of, large_groupings, lists_mixed_in, pairs_of, reaches_of, rows_of,
+    all_groupings, as_lists, factors_of, halved, large_groupings, lists_mixed_in, pairs_of, reaches_of, rows_of,
     small_groupings, starts_of, turned_over,
 )
 
@@ -100,13 +100,6 @@ def replaced(part, factor, thing):
     if isinstance(part, tuple):
         return replaced(part[0], factor, thing), replaced(part[1], factor, thing)
     return thing if part == factor else part
-
-
-def halved(first, last):
-    if first == last:
-        return first
-    join = (first + last) // 2
-    return halved(first, join), halved(join + 1, last)
 
 
 class RowsTest(unittest.TestCase):

@@ -34,6 +34,21 @@ INTERFACE = {
         "with_joins_from_one(factors, many)", "steps_in_all(factors)", "leading_pairs(factors)", "by_longest(factors)",
         "many_behind(grouping)", "many_ahead(grouping)",
     ),
+    "parts": (
+        "only(grouping, factors)", "without(grouping, factor)", "put_in(grouping, factor, other)", "beside(one, other)",
+        "halves(grouping, factor)", "how_many_wholes(one, other)", "least_whole(one, other)",
+        "greatest_whole(one, other)", "whole_at(one, other, number)", "number_of_whole(grouping, factor)",
+        "grown(grouping, gap)", "least_by(factors, wishes)", "greatest_by(factors, bars)",
+        "follows(factors, wishes, wish)", "wishes_of(grouping)", "bars_of(grouping)",
+    ),
+    "brackets": (
+        "is_brackets(factors, thing)", "crossing(brackets)", "parts_of(factors, brackets)",
+        "least_having(factors, brackets)", "greatest_having(factors, brackets)", "how_many_having(factors, brackets)",
+        "has_all(grouping, brackets)", "next_having(grouping, brackets)", "last_having(grouping, brackets)",
+        "sure_between(one, other)", "possible_between(one, other)", "between_having(one, other, brackets)",
+        "family_of(one, other)", "how_many_sets(factors, size)", "how_many_avoiding(factors, brackets)",
+        "one_avoiding(factors, brackets)",
+    ),
 }
 
 # For each class: its file, its properties without setters, its methods. The names of the parameters
@@ -43,6 +58,14 @@ CLASSES = {
         "__init__(self, low, high)", "number_of(self, grouping)", "every(self, *, most=2000)",
         "how_many_have(self, first, last)", "share(self, first, last)", "how_many_reach(self, join, goal)",
         "reaches_of(self, join)", "__eq__(self, other)", "__getitem__", "__contains__", "__iter__",
+    )),
+    "Prices": ("prices", ("factors", "sizes", "weights"), (
+        "__init__(self, factors, sizes=None, weights=None, brackets=())", "of(self, grouping)",
+        "change(self, grouping, join)", "least(self, low=None, high=None)", "greatest(self, low=None, high=None)",
+        "mean(self, low=None, high=None)", "how_many(self, low=None, high=None)",
+        "cheapest(self, number=0, low=None, high=None)", "is_cheapest(self, thing, low=None, high=None)",
+        "lowest_pass(self, one, goal)", "pass_route(self, one, goal)", "falling_route(self, one, goal)",
+        "__eq__(self, other)",
     )),
 }
 

@@ -11,7 +11,7 @@ from regroups.routes import (
 )
 from tests.examples import check_raises, run_examples
 from tests.samples import (
-    all_groupings, as_lists, large_groupings, large_pairs, led_to, lists_mixed_in, nexts_of, pairs_in_order,
+    all_groupings, as_lists, halved, large_groupings, large_pairs, led_to, lists_mixed_in, nexts_of, pairs_in_order,
     reaches_of, routes_between, small_groupings, steps_of,
 )
 
@@ -266,13 +266,6 @@ class IsRouteTest(unittest.TestCase):
             self.assertIs(is_route(one, other, list(row)), False)
             self.assertIs(is_route(one, other, row[:1] + (as_lists(row[1]),) + row[2:]), False)
             self.assertIs(is_route(as_lists(one), as_lists(other), row), True)
-
-
-def halved(first, last):
-    if first == last:
-        return first
-    join = (first + last) // 2
-    return halved(first, join), halved(join + 1, last)
 
 
 def rows_of_groupings(every, many):

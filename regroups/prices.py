@@ -1,0 +1,154 @@
+"""Prices: what it costs to put factors together, pair by pair, and which groupings are the cheapest."""
+
+from regroups.between import Between
+from regroups.errors import NoNumber, Unlike
+from regroups.groupings import (
+    factors_in, from_left, from_right, is_grouping, joins_with_ends, of_reaches, reaches,
+)
+from regroups.order import check_behind, none_greater
+from regroups.parts import check_factors
+from regroups.pricing import best_rows_at, best_within, pair_costs, prices_together
+from regroups.steps import aheads, step_at
+from regroups.ways import lowest_terms, ways_within
+
+
+class Prices:
+    """What each pair costs that groupings of so many factors can have."""
+
+    def __init__(self, factors, sizes=None, weights=None, brackets=()):
+        if sizes is not None and len(sizes) != factors + 1:
+            raise Unlike()
+        if weights is not None and len(weights) != factors:
+            raise Unlike()
+        check_factors(factors, [end for first, last, price in brackets for end in (first, last)])
+        self._factors = factors
+        self._sizes = None if sizes is None else tuple(sizes)
+        self._weights = None if weights is None else tuple(weights)
+        self._costs = pair_costs(factors, sizes, weights, brackets)
+
+    @property
+    def factors(self):
+        """How many factors there are."""
+        return self._factors
+
+    @property
+    def sizes(self):
+        """The sizes, None if there are none."""
+        return self._sizes
+
+    @property
+    def weights(self):
+        """The weights, None if there are none."""
+        return self._weights
+
+    def of(self, grouping):
+        """Tell the price of the grouping."""
+        self._check_factors(grouping)
+        return sum([self._costs[(first, join, last)] for join, first, last in joins_with_ends(grouping)])
+
+    def change(self, grouping, join):
+        """Tell by how much the step at this join makes the grouping dearer."""
+        self._check_factors(grouping)
+        return self.of(step_at(grouping, join)) - self.of(grouping)
+
+    def least(self, low=None, high=None):
+        """Tell the least price of those that are meant."""
+        lows, highs = self._bounds(low, high)
+        return best_within(self._costs, lows, highs)[1][self._factors][0]
+
+    def greatest(self, low=None, high=None):
+        """Tell the greatest price of those that are meant."""
+        lows, highs = self._bounds(low, high)
+        turned = {place: -self._costs[place] for place in self._costs}
+        return -best_within(turned, lows, highs)[1][self._factors][0]
+
+    def mean(self, low=None, high=None):
+        """Tell the average price of those that are meant, a fraction."""
+        lows, highs = self._bounds(low, high)
+        within = ways_within(lows, highs)
+        return lowest_terms(prices_together(self._costs, lows, highs, within), within[1][self._factors])
+
+    def how_many(self, low=None, high=None):
+        """Count those that are meant and have the least price."""
+        lows, highs = self._bounds(low, high)
+        return best_within(self._costs, lows, highs)[1][self._factors][1]
+
+    def cheapest(self, number=0, low=None, high=None):
+        """Make the one with this number of those that have the least price; raise NoNumber if there is none."""
+        lows, highs = self._bounds(low, high)
+        best = best_within(self._costs, lows, highs)
+        if not 0 <= number < best[1][self._factors][1]:
+            raise NoNumber(number)
+        return of_reaches(best_rows_at(self._costs, lows, highs, best, number))
+
+    def is_cheapest(self, thing, low=None, high=None):
+        """Tell whether thing is a grouping that is meant and has the least price."""
+        lows, highs = self._bounds(low, high)
+        if not is_grouping(thing) or factors_in(thing) != self._factors:
+            return False
+        rows = reaches(thing)
+        if not none_greater(lows, rows) or not none_greater(rows, highs):
+            return False
+        return self.of(thing) == self.least(low, high)
+
+    def lowest_pass(self, one, goal):
+        """Tell the least number such that on some route from one to goal no price is greater."""
+        return self._passes(one, goal)[reaches(goal)][0]
+
+    def pass_route(self, one, goal):
+        """List the groupings of a route from one to goal on which no price is above the lowest pass."""
+        passes = self._passes(one, goal)
+        return _traced({rows: passes[rows][1] for rows in passes}, reaches(goal))
+
+    def falling_route(self, one, goal):
+        """List the groupings of a route from one to goal on which no step makes it dearer, None if there is none."""
+        ahead_of = {reaches(one): None}
+        for grouping in self._all_between(one, goal):
+            for ahead in aheads(grouping):
+                if reaches(ahead) in ahead_of and self.of(grouping) <= self.of(ahead):
+                    ahead_of[reaches(grouping)] = reaches(ahead)
+        if reaches(goal) not in ahead_of:
+            return None
+        return _traced(ahead_of, reaches(goal))
+
+    def __eq__(self, other):
+        return isinstance(other, Prices) and self._factors == other._factors and self._costs == other._costs
+
+    def _check_factors(self, grouping):
+        if factors_in(grouping) != self._factors:
+            raise Unlike()
+
+    def _bounds(self, low, high):
+        """Tell the reaches of both ends of what is meant; raise Unlike, then NotBehind if nothing is."""
+        near = from_left(self._factors) if low is None else low
+        far = from_right(self._factors) if high is None else high
+        self._check_factors(near)
+        # Raises Unlike, too, if far has another number of factors.
+        check_behind(near, far)
+        return reaches(near), reaches(far)
+
+    def _all_between(self, one, goal):
+        """List the groupings between the two, each behind those that lead to it."""
+        self._bounds(one, goal)
+        between = Between(one, goal)
+        return between.every(most=between.many)
+
+    def _passes(self, one, goal):
+        """Tell for each one between, by its reaches, the lowest pass to it from one, and the last one ahead of it."""
+        found = {}
+        for grouping in self._all_between(one, goal):
+            price = self.of(grouping)
+            ways = [(found[reaches(ahead)][0], reaches(ahead))
+                    for ahead in aheads(grouping) if reaches(ahead) in found]
+            height, ahead = min(ways, default=(price, None))
+            found[reaches(grouping)] = (max(height, price), ahead)
+        return found
+
+
+def _traced(ahead_of, rows):
+    """List the groupings that end with the one with these reaches, each behind the one that is told for it."""
+    found = []
+    while rows is not None:
+        found.append(of_reaches(rows))
+        rows = ahead_of[rows]
+    return found[::-1]
