@@ -124,6 +124,30 @@ class LanguageTest(unittest.TestCase):
                 if isinstance(node, ast.Name) and node.id in dir(builtins):
                     self.assertIn(node.id, BUILTINS, path.name)
 
+    def test_no_variable_has_the_name_of_an_import_or_a_class(self):
+        for path in package_files():
+            nodes = nodes_of(path)
+            taken = {alias.name for node in nodes if isinstance(node, ast.ImportFrom) for alias in node.names}
+            taken |= {node.name for node in nodes if isinstance(node, ast.ClassDef)}
+            used = {node.arg for node in nodes if isinstance(node, ast.arg)}
+            used |= {node.id for node in nodes if isinstance(node, ast.Name) and isinstance(node.ctx, ast.Store)}
+            self.assertEqual(taken & used, set(), path.name)
+
+    def test_a_property_has_its_name_for_itself(self):
+        properties, methods, stored = set(), set(), set()
+        for path in package_files():
+            for node in nodes_of(path):
+                if isinstance(node, ast.ClassDef):
+                    for own in node.body:
+                        if isinstance(own, ast.FunctionDef):
+                            (properties if own.decorator_list else methods).add(own.name)
+                elif isinstance(node, ast.Attribute) and isinstance(node.ctx, ast.Store):
+                    stored.add(node.attr)
+        self.assertEqual(properties & (methods | stored), set())
+        for value in ("", 0, [], (), {}, set()):
+            self.assertEqual(properties & set(dir(value)), set())
+        self.assertNotIn("keys", methods | stored)
+
     def test_words(self):
         for path in package_files():
             for node in nodes_of(path):
