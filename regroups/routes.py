@@ -2,7 +2,8 @@
 
 from regroups.errors import NoJoin
 from regroups.groupings import factors_in, is_grouping, of_reaches, reaches
-from regroups.order import check_behind, check_like, is_between, leads_to, unlike_joins
+from regroups.order import check_behind, check_like, is_between, leads_to, none_greater, unlike_joins
+from regroups.rows import open_rises, rises_each, rises_to_last, risen, sum_of_rises
 from regroups.steps import open_joins, step_at
 
 
@@ -24,10 +25,7 @@ def hops(one, other):
     """Tell for each join how often its reach rises on a route, at the least and at the most."""
     check_behind(one, other)
     near, far = reaches(one), reaches(other)
-    joins = range(1, len(near) + 1)
-    fewest = tuple([len(_climb(far, near[join - 1], far[join - 1])) - 1 for join in joins])
-    most = tuple([len(_climb(near, near[join - 1], far[join - 1])) - 1 for join in joins])
-    return fewest, most
+    return rises_each(far, near, far), rises_each(near, near, far)
 
 
 def sure_reaches(one, other, join):
@@ -44,18 +42,15 @@ def possible_reaches(one, other, join):
 
 def route(one, other, many=None):
     """List the groupings of a route with so many steps, the fewest for None; None if there is none."""
-    fewest, most = fewest_steps(one, other), most_steps(one, other)
-    if fewest is None:
+    check_like((one, other))
+    near, far = reaches(one), reaches(other)
+    if not none_greater(near, far):
         return None
-    left = fewest if many is None else many
-    if not fewest <= left <= most:
+    fewest = sum_of_rises(far, near, far)
+    steps = fewest if many is None else many
+    if steps != fewest and not fewest <= steps <= sum_of_rises(near, near, far):
         return None
-    # Made anew, so that lists that were handed in do not come back.
-    found = [of_reaches(reaches(one))]
-    while left > 0:
-        left -= 1
-        found.append(_next_with(found[-1], other, left))
-    return found
+    return [of_reaches(rows) for rows in _rows_on_route(near, far, steps)]
 
 
 def is_route(one, other, thing):
@@ -63,13 +58,16 @@ def is_route(one, other, thing):
     check_like((one, other))
     if not isinstance(thing, tuple) or len(thing) == 0:
         return False
+    behind = [reaches(one)]
     # The first fault ends it: each step but a wrong one makes a reach greater, so there can not be many.
-    for at, grouping in enumerate(thing):
+    for grouping in thing:
         if not is_grouping(grouping) or factors_in(grouping) != factors_in(one):
             return False
-        if at > 0 and not _is_step(thing[at - 1], grouping):
+        rows = reaches(grouping)
+        if rows not in behind:
             return False
-    return reaches(thing[0]) == reaches(one) and reaches(thing[-1]) == reaches(other)
+        behind = [risen(rows, join, reach) for join, reach in open_rises(rows)]
+    return reaches(thing[-1]) == reaches(other)
 
 
 def next_joins(one, other):
@@ -120,20 +118,26 @@ def _checked_reaches(one, other, join):
     return near, far
 
 
-def _next_with(one, other, left):
-    """Make a grouping behind one step from which just so many steps can lead to other."""
-    for join in next_joins(one, other):
-        behind = step_at(one, join)
-        fewest, most = hops(behind, other)
-        if sum(fewest) <= left <= sum(most):
-            return behind
+def _rows_on_route(near, far, steps):
+    """List the reaches on a route with so many steps."""
+    found = [near]
+    for left in range(steps - 1, -1, -1):
+        found.append(_next_rows(found[-1], far, left))
+    return found
+
+
+def _next_rows(rows, far, left):
+    """Make the reaches behind the first step from which just so many steps can lead to far."""
+    table = rises_to_last(far)
+    fewest = sum_of_rises(far, rows, far)
+    for join, reach in open_rises(rows):
+        if reach <= far[join - 1]:
+            # No other reach is nearer to far, or farther from it, by this step.
+            fewest_behind = fewest + table[reach] - table[rows[join - 1]]
+            behind = risen(rows, join, reach)
+            if fewest_behind == left or fewest_behind < left <= sum_of_rises(behind, behind, far):
+                return behind
     return None
-
-
-def _is_step(near, far):
-    """Tell whether some step of the one makes the other."""
-    joins = unlike_joins(near, far)
-    return len(joins) == 1 and joins[0] in open_joins(near) and reaches(step_at(near, joins[0])) == reaches(far)
 
 
 def _is_on(one, grouping, other, which):

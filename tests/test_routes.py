@@ -208,14 +208,33 @@ class LargeOnesTest(unittest.TestCase):
             self.assertEqual(possible_reaches(left, right, 1), tuple(range(2, factors + 1)))
             self.assertEqual(next_joins(left, right), tuple(range(1, factors - 1)))
 
+    def test_thirty_factors_with_as_few_steps_as_can_be(self):
+        pairs = [(from_left(30), from_right(30)), (halved(1, 30), from_right(30)), (from_left(30), halved(1, 30)),
+                 many_steps_apart(30)]
+        for one, other in pairs:
+            for row in (route(one, other), route(one, other, None), route(as_lists(one), as_lists(other))):
+                self.assertEqual((row[0], row[-1], len(row) - 1), (one, other, fewest_steps(one, other)))
+                for near, far in zip(row, row[1:]):
+                    self.assertIn(far, nexts_of(near))
+                self.assertIs(is_route(one, other, tuple(row)), True)
+            self.assertIsNone(route(other, one))
+            check_raises(self, Unlike(), lambda: route(one, from_right(29)))
+
     def test_many_steps_at_the_least(self):
-        one, other = from_right(16), 16
-        for factor in range(17, 31):
-            one, other = (one, factor), (other, factor)
-        for factor in range(15, 0, -1):
-            other = (factor, other)
+        one, other = many_steps_apart(30)
         self.assertEqual(fewest_steps(one, other), 15 * 14)
         self.assertEqual(len(route(one, other)), 15 * 14 + 1)
+
+
+def many_steps_apart(factors):
+    """A pair of groupings of so many factors, an even number, that are many steps apart at the least."""
+    half = factors // 2
+    one, other = from_right(half + 1), half + 1
+    for factor in range(half + 2, factors + 1):
+        one, other = (one, factor), (other, factor)
+    for factor in range(half, 0, -1):
+        other = (factor, other)
+    return one, other
 
 
 class IsRouteTest(unittest.TestCase):

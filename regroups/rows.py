@@ -1,0 +1,38 @@
+"""Steps told by reaches alone, without making the groupings between."""
+
+
+def open_rises(rows):
+    """List (join, its reach behind the step) for each open join, in order."""
+    found = []
+    taken = {}
+    for join, reach in enumerate(rows, start=1):
+        # Of the joins with one reach just the first one stands in no right operand that ends there, too.
+        if reach not in taken and reach <= len(rows):
+            found.append((join, rows[reach - 1]))
+        taken[reach] = True
+    return found
+
+
+def risen(rows, join, reach):
+    """Make the reaches with this one at the join."""
+    return rows[:join - 1] + (reach,) + rows[join:]
+
+
+def rises_to_last(rows):
+    """Tell, at each reach, how often it rises to what rows have at the join called so, up to the last factor."""
+    last = len(rows) + 1
+    found = [0] * (last + 1)
+    for reach in range(last - 1, 0, -1):
+        found[reach] = found[rows[reach - 1]] + 1
+    return found
+
+
+def rises_each(rows, near, far):
+    """Tell how often each reach of near rises so until it is that of far."""
+    table = rises_to_last(rows)
+    return tuple([table[low] - table[high] for low, high in zip(near, far)])
+
+
+def sum_of_rises(rows, near, far):
+    """Tell how often all reaches of near rise so, together, until they are those of far."""
+    return sum(rises_each(rows, near, far))
