@@ -1,6 +1,5 @@
 """Prices: what it costs to put factors together, pair by pair, and which groupings are the cheapest."""
 
-from regroups.between import Between
 from regroups.errors import NoNumber, Unlike
 from regroups.groupings import (
     factors_in, from_left, from_right, is_grouping, joins_with_ends, of_reaches, reaches,
@@ -8,7 +7,8 @@ from regroups.groupings import (
 from regroups.order import check_behind, none_greater
 from regroups.parts import check_factors
 from regroups.pricing import best_rows_at, best_within, pair_costs, prices_together
-from regroups.steps import aheads, step_at
+from regroups.rows import pairs_of_rows, steps_between
+from regroups.steps import step_at
 from regroups.ways import lowest_terms, ways_within
 
 
@@ -97,19 +97,22 @@ class Prices:
 
     def pass_route(self, one, goal):
         """List the groupings of a route from one to goal on which no price is above the lowest pass."""
-        passes = self._passes(one, goal)
-        return _traced({rows: passes[rows][1] for rows in passes}, reaches(goal))
+        return _traced(self._passes(one, goal), reaches(goal))
 
     def falling_route(self, one, goal):
         """List the groupings of a route from one to goal on which no step makes it dearer, None if there is none."""
-        ahead_of = {reaches(one): None}
-        for grouping in self._all_between(one, goal):
-            for ahead in aheads(grouping):
-                if reaches(ahead) in ahead_of and self.of(grouping) <= self.of(ahead):
-                    ahead_of[reaches(grouping)] = reaches(ahead)
-        if reaches(goal) not in ahead_of:
-            return None
-        return _traced(ahead_of, reaches(goal))
+        near, far = self._bounds(one, goal)
+        steps = steps_between(near, far)
+        prices = {rows: self._price(rows) for rows in steps}
+        # Of several ahead of one, that is kept in which the join of the step reaches farthest.
+        found = {near: (0, None)}
+        for rows in steps:
+            if rows in found:
+                for join, behind in steps[rows]:
+                    if prices[behind] <= prices[rows]:
+                        own = (rows[join - 1], rows)
+                        found[behind] = max(own, found.get(behind, own))
+        return _traced(found, far) if far in found else None
 
     def __eq__(self, other):
         return isinstance(other, Prices) and self._factors == other._factors and self._costs == other._costs
@@ -127,28 +130,29 @@ class Prices:
         check_behind(near, far)
         return reaches(near), reaches(far)
 
-    def _all_between(self, one, goal):
-        """List the groupings between the two, each behind those that lead to it."""
-        self._bounds(one, goal)
-        between = Between(one, goal)
-        return between.every(most=between.many)
+    def _price(self, rows):
+        """Tell the price of the grouping with these reaches."""
+        return sum([self._costs[pair] for pair in pairs_of_rows(rows)])
 
     def _passes(self, one, goal):
-        """Tell for each one between, by its reaches, the lowest pass to it from one, and the last one ahead of it."""
-        found = {}
-        for grouping in self._all_between(one, goal):
-            price = self.of(grouping)
-            ways = [(found[reaches(ahead)][0], reaches(ahead))
-                    for ahead in aheads(grouping) if reaches(ahead) in found]
-            height, ahead = min(ways, default=(price, None))
-            found[reaches(grouping)] = (max(height, price), ahead)
+        """Tell for all reaches between the two the lowest pass to them from one, and the last ones ahead of them."""
+        near, far = self._bounds(one, goal)
+        steps = steps_between(near, far)
+        found = {near: (self._price(near), None)}
+        # Those ahead of others come first.
+        for rows in steps:
+            height, ahead = found[rows]
+            own = (max(height, self._price(rows)), rows)
+            found[rows] = (own[0], ahead)
+            for join, behind in steps[rows]:
+                found[behind] = min(own, found.get(behind, own))
         return found
 
 
-def _traced(ahead_of, rows):
+def _traced(found, rows):
     """List the groupings that end with the one with these reaches, each behind the one that is told for it."""
-    found = []
+    row = []
     while rows is not None:
-        found.append(of_reaches(rows))
-        rows = ahead_of[rows]
-    return found[::-1]
+        row.append(of_reaches(rows))
+        rows = found[rows][1]
+    return row[::-1]

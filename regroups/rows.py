@@ -36,3 +36,29 @@ def rises_each(rows, near, far):
 def sum_of_rises(rows, near, far):
     """Tell how often all reaches of near rise so, together, until they are those of far."""
     return sum(rises_each(rows, near, far))
+
+
+def steps_between(near, far):
+    """Tell for all reaches between two, ascending, the list of (join, reaches behind) that still lead to far."""
+    found = {}
+    waiting = [near]
+    while waiting:
+        rows = waiting.pop()
+        if rows not in found:
+            found[rows] = [(join, risen(rows, join, reach)) for join, reach in open_rises(rows)
+                           if reach <= far[join - 1]]
+            waiting.extend([behind for join, behind in found[rows]])
+    return {rows: found[rows] for rows in sorted(found)}
+
+
+def pairs_of_rows(rows):
+    """List (start, join, reach) for each join, in order."""
+    found = []
+    # The joins in whose right operands the next join stands, the innermost one last.
+    around = []
+    for join, reach in enumerate(rows, start=1):
+        while around and rows[around[-1] - 1] <= join:
+            around.pop()
+        found.append((around[-1] + 1 if around else 1, join, reach))
+        around.append(join)
+    return found

@@ -295,12 +295,50 @@ class RoutesTest(unittest.TestCase):
             self.assertEqual(max(prices.of(grouping) for grouping in row), height)
             self.assertEqual(height, lowest_by_trying(prices, left, right))
 
+    def test_eight_factors_of_all_sorts(self):
+        left, right, mid = from_left(8), from_right(8), halved(1, 8)
+        none = 0
+        for seed, (one, goal) in enumerate([(left, right), (left, mid), (mid, right), (mid, mid)] * 4):
+            prices = Prices(8, *terms(8, seed))
+            row = prices.pass_route(one, goal)
+            self.assertTrue(is_route(one, goal, tuple(row)))
+            height = prices.lowest_pass(one, goal)
+            self.assertEqual(max(price_of(grouping, *terms(8, seed)) for grouping in row), height)
+            self.assertEqual(height, lowest_by_trying(prices, one, goal))
+            falling = prices.falling_route(one, goal)
+            self.assertIs(falling is not None, goal in fallen_to(prices, one))
+            if falling is None:
+                none += 1
+                continue
+            self.assertTrue(is_route(one, goal, tuple(falling)))
+            for near, far in zip(falling, falling[1:]):
+                self.assertLessEqual(prices.of(far), prices.of(near))
+        self.assertTrue(3 <= none <= 12)
+        prices = Prices(8)
+        for tell in (prices.lowest_pass, prices.pass_route, prices.falling_route):
+            check_raises(self, NotBehind(), lambda: tell(right, left))
+            check_raises(self, NotBehind(), lambda: tell(mid, left))
+            check_raises(self, Unlike(), lambda: tell(from_right(9), left))
+            check_raises(self, Unlike(), lambda: tell(right, from_left(7)))
+
     def test_equal_ones(self):
         for grouping in small_groupings(5):
             prices = Prices(factors_in(grouping), *terms(factors_in(grouping), 3))
             self.assertEqual(prices.lowest_pass(grouping, grouping), prices.of(grouping))
             self.assertEqual(prices.pass_route(grouping, grouping), [grouping])
             self.assertEqual(prices.falling_route(grouping, grouping), [grouping])
+
+
+def fallen_to(prices, one):
+    """All that come of one by steps that make it no dearer."""
+    found, edge = {one}, [one]
+    while edge:
+        ahead = edge.pop()
+        for behind in nexts_of(ahead):
+            if behind not in found and prices.of(behind) <= prices.of(ahead):
+                found.add(behind)
+                edge.append(behind)
+    return found
 
 
 def lowest_by_trying(prices, one, goal):

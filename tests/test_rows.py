@@ -1,10 +1,11 @@
-"""[5], [7]: steps told by reaches alone."""
+"""[5], [7], [12]: steps told by reaches alone."""
 
 import unittest
 
-from regroups.rows import open_rises, rises_each, risen, sum_of_rises
+from regroups.rows import open_rises, pairs_of_rows, rises_each, risen, steps_between, sum_of_rises
 from tests.samples import (
-    large_groupings, large_pairs, pairs_in_order, reaches_of, routes_between, small_groupings, steps_of,
+    large_groupings, large_pairs, listed_between, pairs_in_order, pairs_of, reaches_of, routes_between,
+    small_groupings, steps_of,
 )
 
 
@@ -15,6 +16,22 @@ class RowsTest(unittest.TestCase):
             found = [(join, risen(rows, join, reach)) for join, reach in open_rises(rows)]
             wanted = [(join, reaches_of(row[0])) for join, row in sorted(steps_of(grouping).items())]
             self.assertEqual(found, wanted)
+
+    def test_pairs(self):
+        for grouping in small_groupings(6) + large_groupings():
+            wanted = [(start, join, reach) for join, start, reach in pairs_of(grouping)]
+            self.assertEqual(pairs_of_rows(reaches_of(grouping)), wanted)
+
+    def test_steps_between(self):
+        for factors in range(1, 6):
+            for one, other in pairs_in_order(factors):
+                every = listed_between(one, other)
+                found = steps_between(reaches_of(one), reaches_of(other))
+                self.assertEqual(list(found), [reaches_of(grouping) for grouping in every])
+                for grouping in every:
+                    wanted = [(join, reaches_of(row[0])) for join, row in sorted(steps_of(grouping).items())
+                              if row[0] in every]
+                    self.assertEqual(found[reaches_of(grouping)], wanted)
 
     def test_rises(self):
         for factors in range(1, 6):
