@@ -22,6 +22,21 @@ def none_greater(rows, others):
     return all([row <= other for row, other in zip(rows, others)])
 
 
+def bounds_of(factors, low, high):
+    """Tell the reaches between which all lie that are meant; raise Unlike, then NotBehind if none are.
+
+    For None as low all are meant that lead to high, for None as high all to which low leads.
+    """
+    for end in (low, high):
+        if end is not None and factors_in(end) != factors:
+            raise Unlike()
+    lows = tuple(range(2, factors + 1)) if low is None else reaches(low)
+    highs = (factors,) * (factors - 1) if high is None else reaches(high)
+    if not none_greater(lows, highs):
+        raise NotBehind()
+    return lows, highs
+
+
 def leads_to(one, other):
     """Tell whether other comes of one by some steps, maybe none."""
     check_like((one, other))

@@ -1,15 +1,13 @@
 """Prices: what it costs to put factors together, pair by pair, and which groupings are the cheapest."""
 
 from regroups.errors import NoNumber, Unlike
-from regroups.groupings import (
-    factors_in, from_left, from_right, is_grouping, joins_with_ends, of_reaches, reaches,
-)
-from regroups.order import check_behind, none_greater
+from regroups.groupings import factors_in, is_grouping, joins_with_ends, of_reaches, reaches
+from regroups.order import bounds_of, none_greater
 from regroups.parts import check_factors
-from regroups.pricing import best_rows_at, best_within, pair_costs, prices_together
+from regroups.pricing import best_counted, best_rows_at, best_within, pair_costs, prices_of_all, prices_together
 from regroups.rows import pairs_of_rows, steps_between
 from regroups.steps import step_at
-from regroups.ways import lowest_terms, ways_within
+from regroups.ways import lowest_terms
 
 
 class Prices:
@@ -44,7 +42,8 @@ class Prices:
     def of(self, grouping):
         """Tell the price of the grouping."""
         self._check_factors(grouping)
-        return sum([self._costs[(first, join, last)] for join, first, last in joins_with_ends(grouping)])
+        costs = self._costs
+        return sum([costs[first][last][join - first] for join, first, last in joins_with_ends(grouping)])
 
     def change(self, grouping, join):
         """Tell by how much the step at this join makes the grouping dearer."""
@@ -53,43 +52,46 @@ class Prices:
 
     def least(self, low=None, high=None):
         """Tell the least price of those that are meant."""
-        lows, highs = self._bounds(low, high)
-        return best_within(self._costs, lows, highs)[1][self._factors][0]
+        lows, highs = bounds_of(self._factors, low, high)
+        return best_within(self._costs, lows, highs)[self._factors][1]
 
     def greatest(self, low=None, high=None):
         """Tell the greatest price of those that are meant."""
-        lows, highs = self._bounds(low, high)
-        turned = {place: -self._costs[place] for place in self._costs}
-        return -best_within(turned, lows, highs)[1][self._factors][0]
+        lows, highs = bounds_of(self._factors, low, high)
+        return best_within(self._costs, lows, highs, dearest=True)[self._factors][1]
 
     def mean(self, low=None, high=None):
         """Tell the average price of those that are meant, a fraction."""
-        lows, highs = self._bounds(low, high)
-        within = ways_within(lows, highs)
-        return lowest_terms(prices_together(self._costs, lows, highs, within), within[1][self._factors])
+        lows, highs = bounds_of(self._factors, low, high)
+        if low is None and high is None:
+            total, many = prices_of_all(self._costs)
+        else:
+            total, many = prices_together(self._costs, lows, highs)
+        return lowest_terms(total, many)
 
     def how_many(self, low=None, high=None):
         """Count those that are meant and have the least price."""
-        lows, highs = self._bounds(low, high)
-        return best_within(self._costs, lows, highs)[1][self._factors][1]
+        lows, highs = bounds_of(self._factors, low, high)
+        best, manys = best_counted(self._costs, lows, highs)
+        return manys[self._factors][1]
 
     def cheapest(self, number=0, low=None, high=None):
         """Make the one with this number of those that have the least price; raise NoNumber if there is none."""
-        lows, highs = self._bounds(low, high)
-        best = best_within(self._costs, lows, highs)
-        if not 0 <= number < best[1][self._factors][1]:
+        lows, highs = bounds_of(self._factors, low, high)
+        best, manys = best_counted(self._costs, lows, highs)
+        if not 0 <= number < manys[self._factors][1]:
             raise NoNumber(number)
-        return of_reaches(best_rows_at(self._costs, lows, highs, best, number))
+        return of_reaches(best_rows_at(self._costs, lows, highs, best, manys, number))
 
     def is_cheapest(self, thing, low=None, high=None):
         """Tell whether thing is a grouping that is meant and has the least price."""
-        lows, highs = self._bounds(low, high)
+        lows, highs = bounds_of(self._factors, low, high)
         if not is_grouping(thing) or factors_in(thing) != self._factors:
             return False
         rows = reaches(thing)
         if not none_greater(lows, rows) or not none_greater(rows, highs):
             return False
-        return self.of(thing) == self.least(low, high)
+        return self._price(rows) == best_within(self._costs, lows, highs)[self._factors][1]
 
     def lowest_pass(self, one, goal):
         """Tell the least number such that on some route from one to goal no price is greater."""
@@ -101,7 +103,7 @@ class Prices:
 
     def falling_route(self, one, goal):
         """List the groupings of a route from one to goal on which no step makes it dearer, None if there is none."""
-        near, far = self._bounds(one, goal)
+        near, far = bounds_of(self._factors, one, goal)
         steps = steps_between(near, far)
         prices = {rows: self._price(rows) for rows in steps}
         # Of several ahead of one, that is kept in which the join of the step reaches farthest.
@@ -121,22 +123,14 @@ class Prices:
         if factors_in(grouping) != self._factors:
             raise Unlike()
 
-    def _bounds(self, low, high):
-        """Tell the reaches of both ends of what is meant; raise Unlike, then NotBehind if nothing is."""
-        near = from_left(self._factors) if low is None else low
-        far = from_right(self._factors) if high is None else high
-        self._check_factors(near)
-        # Raises Unlike, too, if far has another number of factors.
-        check_behind(near, far)
-        return reaches(near), reaches(far)
-
     def _price(self, rows):
         """Tell the price of the grouping with these reaches."""
-        return sum([self._costs[pair] for pair in pairs_of_rows(rows)])
+        costs = self._costs
+        return sum([costs[first][last][join - first] for first, join, last in pairs_of_rows(rows)])
 
     def _passes(self, one, goal):
         """Tell for all reaches between the two the lowest pass to them from one, and the last ones ahead of them."""
-        near, far = self._bounds(one, goal)
+        near, far = bounds_of(self._factors, one, goal)
         steps = steps_between(near, far)
         found = {near: (self._price(near), None)}
         # Those ahead of others come first.

@@ -41,6 +41,31 @@ def joins_for(lows, highs, first, last):
     return [join for join in range(first, last) if lows[join - 1] <= last <= highs[join - 1]]
 
 
+def stretches_within(lows, highs):
+    """Go through (first, ends) from behind: ends lists (last, joins) for the stretches from first that can be parts.
+
+    Those within a stretch come ahead of it. The joins are those that its pair may have if the reaches of all
+    joins within keep to the bounds.
+    """
+    factors = len(lows) + 1
+    for first in range(factors - 1, 0, -1):
+        ends, joins = [], []
+        farthest, can_be = 0, True
+        for last in range(first + 1, factors + 1):
+            # A join that can not reach so far is of no use from here on; none behind it reaches farther.
+            while joins and highs[joins[-1] - 1] < last:
+                joins.pop()
+            if can_be:
+                joins.append(last - 1)
+            # A join that has to reach beyond the last factor can not be within.
+            if lows[last - 2] > farthest:
+                farthest = lows[last - 2]
+            can_be = farthest <= last
+            if can_be:
+                ends.append((last, list(joins)))
+        yield first, ends
+
+
 def rows_at(lows, within, number):
     """Tell the reaches with this number among all that keep to the bounds, ascending from 0."""
     factors = len(lows) + 1
@@ -58,6 +83,15 @@ def rows_at(lows, within, number):
             waiting.append((first + 1, end, inner_number))
             waiting.append((end, last, outer_number))
     return tuple(rows)
+
+
+def counted_off(counts, number):
+    """Tell at which of the counts the number is, if they are counted off one behind another, and where in it."""
+    at = 0
+    while number >= counts[at]:
+        number = number - counts[at]
+        at += 1
+    return at, number
 
 
 def number_of_rows(lows, within, rows):

@@ -2,8 +2,10 @@
 
 import unittest
 from fractions import Fraction
+from math import prod
 
 from regroups import prices as module
+from regroups.brackets import greatest_having, least_having, parts_of
 from regroups.counts import how_many
 from regroups.errors import NoFactor, NoJoin, NoNumber, NotBehind, NotOpen, Unlike
 from regroups.groupings import factors_in, from_left, from_right, is_grouping
@@ -237,6 +239,67 @@ class LargeOnesTest(unittest.TestCase):
             self.assertTrue(prices.is_cheapest(prices.cheapest(prices.how_many() - 1)))
             part, whole = prices.mean()
             self.assertTrue(prices.least() * whole < part < prices.greatest() * whole)
+
+    def test_thirty_factors_with_bounds(self):
+        """Those that have given brackets are all between two, and each part is grouped by itself."""
+        for seed, brackets in enumerate(WIDE_BRACKETS * 2):
+            sizes, weights, _ = terms(30, seed)
+            low, high = least_having(30, brackets), greatest_having(30, brackets)
+            rows = [prices_of_part(parts, sizes, weights) for _, parts in parts_of(30, brackets)]
+            prices = Prices(30, sizes, weights)
+            self.assertEqual(prices.least(low, high), sum(min(row) for row in rows))
+            self.assertEqual(prices.greatest(low, high), sum(max(row) for row in rows))
+            means = [Fraction(sum(row), len(row)) for row in rows]
+            self.assertEqual(prices.mean(low, high), (sum(means).numerator, sum(means).denominator))
+            many = prices.how_many(low, high)
+            self.assertEqual(many, prod(row.count(min(row)) for row in rows))
+            numbers = sorted({0, many // 3, many // 2, many - 1})
+            found = [prices.cheapest(number, low, high) for number in numbers]
+            self.assertEqual([place_of(grouping) for grouping in found], sorted({place_of(each) for each in found}))
+            for grouping in found:
+                self.assertTrue(leads_to(low, grouping) and leads_to(grouping, high))
+                self.assertEqual(price_of(grouping, sizes, weights, ()), prices.least(low, high))
+                self.assertIs(prices.is_cheapest(grouping, low, high), True)
+            check_raises(self, NoNumber(many), lambda: prices.cheapest(many, low, high))
+            check_raises(self, NotBehind(), lambda: prices.mean(from_right(30), low))
+
+    def test_thirty_factors_with_one_end_or_none(self):
+        left, right = from_left(30), from_right(30)
+        for seed in range(4):
+            given = terms(30, seed)
+            prices = Prices(30, *given)
+            for tell in (prices.least, prices.greatest, prices.mean, prices.how_many, prices.cheapest):
+                self.assertEqual(tell(low=left), tell())
+                self.assertEqual(tell(high=right), tell())
+                self.assertEqual(tell(low=left, high=right), tell())
+            self.assertEqual(price_of(prices.cheapest(), *given), prices.least())
+            for end in (halved(1, 30), large_groupings()[-1]):
+                self.assertEqual(prices.least(end, end), price_of(end, *given))
+                self.assertLessEqual(prices.least(), min(prices.least(end), prices.least(high=end)))
+                self.assertGreaterEqual(prices.greatest(), max(prices.greatest(end), prices.greatest(high=end)))
+                self.assertEqual(price_of(prices.cheapest(low=end), *given), prices.least(end))
+                self.assertEqual(price_of(prices.cheapest(high=end), *given), prices.least(None, end))
+        self.assertEqual(Prices(30).how_many(), 1002242216651368)
+        self.assertEqual(Prices(30, weights=(0,) * 29 + (1,)).greatest(), 29)
+        self.assertEqual(Prices(30, brackets=((1, 30, 2),)).mean(), (2, 1))
+
+
+WIDE_BRACKETS = (
+    ((1, 6), (7, 12), (13, 18), (19, 24), (25, 30)),
+    ((1, 2), (1, 7), (1, 12), (13, 19), (14, 19), (20, 26), (20, 22), (24, 26), (27, 30)),
+    ((2, 8), (9, 15), (2, 15), (16, 22), (23, 29), (1, 22), (3, 5)),
+    ((1, 25), (1, 20), (1, 15), (1, 10), (1, 5)),
+    ((26, 30), (21, 30), (16, 30), (11, 30), (6, 30)),
+)
+
+
+def prices_of_part(parts, sizes, weights):
+    """What the pairs of one part cost, for each way to put together the stretches of which it consists."""
+    if sizes is not None:
+        sizes = (sizes[parts[0][0] - 1],) + tuple(sizes[last] for first, last in parts)
+    if weights is not None:
+        weights = tuple(sum(weights[first - 1:last]) for first, last in parts)
+    return [price_of(grouping, sizes, weights, ()) for grouping in all_groupings(1, len(parts))]
 
 
 def between_by_steps(low, high):
