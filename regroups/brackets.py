@@ -8,6 +8,7 @@ from regroups.errors import Crossed
 from regroups.groupings import factors_in, is_number, joins_with_ends, of_reaches, reaches
 from regroups.order import check_behind, greatest_ahead, leads_to, least_behind
 from regroups.parts import check_factors
+from regroups.ways import ways_without
 
 
 def check_brackets(factors, brackets):
@@ -199,11 +200,4 @@ def _spans_of(grouping):
 
 def _ways_avoiding(factors, brackets):
     """Count, at [first][last], the groupings of these factors alone that have none of the brackets."""
-    barred = [(first, last) for first, last in brackets]
-    ways = [[0] * (factors + 1) for _ in range(factors + 1)]
-    for first in range(factors, 0, -1):
-        ways[first][first] = 1
-        for last in range(first + 1, factors + 1):
-            if (first, last) not in barred:
-                ways[first][last] = sum([ways[first][join] * ways[join + 1][last] for join in range(first, last)])
-    return ways
+    return ways_without(factors, [(first, last) for first, last in brackets])

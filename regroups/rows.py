@@ -62,3 +62,16 @@ def pairs_of_rows(rows):
         found.append((around[-1] + 1 if around else 1, join, reach))
         around.append(join)
     return found
+
+
+def right_depths_of(rows):
+    """Tell in how many right operands each factor stands."""
+    found = [0]
+    # The reaches of the joins in whose right operands the factor stands, the innermost one last.
+    around = []
+    for factor, reach in enumerate(rows, start=2):
+        while around and around[-1] < factor:
+            around.pop()
+        around.append(reach)
+        found.append(len(around))
+    return tuple(found)

@@ -128,3 +128,54 @@ def _step_ways(lows, highs, within, first, last):
             if last <= highs[inner - 1]:
                 found = found + within[first][inner] * within[inner + 1][outer] * within[outer + 1][last]
     return found
+
+
+def ways_without(factors, barred):
+    """Count, at [first][last], the groupings of these factors alone that have none of the barred brackets."""
+    ways = [[0] * (factors + 1) for _ in range(factors + 1)]
+    # The same at [last][first], so that operands that end together stand in one row, too.
+    columns = [[0] * (factors + 1) for _ in range(factors + 1)]
+    for first in range(factors, 0, -1):
+        ways[first][first] = columns[first][first] = 1
+        for last in range(first + 1, factors + 1):
+            if (first, last) not in barred:
+                lefts, rights = ways[first][first:last], columns[last][first + 1:last + 1]
+                ways[first][last] = columns[last][first] = sum([left * right for left, right in zip(lefts, rights)])
+    return ways
+
+
+def ways_beyond(ways, barred):
+    """Count, at [first][last], the ways to bracket all around such a part, if ways are told as by ways_without."""
+    factors = len(ways) - 1
+    beyond = [[0] * (factors + 1) for _ in range(factors + 1)]
+    beyond[1][factors] = 1
+    for first in range(1, factors + 1):
+        for last in range(factors, first - 1, -1):
+            # As a left operand, and as a right one.
+            longer = [beyond[first][end] * ways[last + 1][end] for end in range(last + 1, factors + 1)]
+            wider = [beyond[begin][last] * ways[begin][first - 1] for begin in range(1, first)]
+            if (first, last) not in barred and (first, last) != (1, factors):
+                beyond[first][last] = sum(longer) + sum(wider)
+    return beyond
+
+
+def rows_by_joins(ways, usable, number):
+    """Tell the reaches with this number, by the joins of the wholes, then by the left operands, then by the right ones.
+
+    ways counts, at [first][last], the groupings of these factors alone; usable lists, at [first], the joins that
+    a pair may have that starts there.
+    """
+    factors = len(ways) - 1
+    rows = [0] * (factors - 1)
+    waiting = [(1, factors, number)]
+    while waiting:
+        first, last, number_here = waiting.pop()
+        if first < last:
+            joins = [own for own in usable[first] if own < last]
+            at, rest = counted_off([ways[first][own] * ways[own + 1][last] for own in joins], number_here)
+            join = joins[at]
+            rows[join - 1] = last
+            left_number, right_number = divmod(rest, ways[join + 1][last])
+            waiting.append((first, join, left_number))
+            waiting.append((join + 1, last, right_number))
+    return tuple(rows)

@@ -3,6 +3,12 @@
 from functools import lru_cache
 from itertools import product
 
+from regroups.between import Between
+from regroups.errors import NoJoin, Unlike
+from regroups.prices import Prices
+
+HUGE = 10 ** 5000
+
 
 def all_groupings(first, last):
     """All groupings of the factors from first to last, which keep their numbers."""
@@ -158,3 +164,45 @@ def large_pairs():
     return [(grouping, walked_from(grouping, seed, many))
             for seed, grouping in enumerate(large_groupings())
             for many in (0, 1, 2 + seed % 7, 40)]
+
+
+def place_of(part):
+    """What tells the place of a grouping in the order by outermost joins."""
+    if isinstance(part, int):
+        return ()
+    return factors_of(part[0])[-1], place_of(part[0]), place_of(part[1])
+
+
+def meant(low, high, factors):
+    """All groupings to which low leads, and that lead to high; either may be None."""
+    every = all_groupings(1, factors)
+    return [grouping for grouping in every
+            if (low is None or grouping in led_to(low)) and (high is None or high in led_to(grouping))]
+
+
+def some_ends(factors):
+    """Pairs (low, high), each maybe None, for which something is meant."""
+    pairs = pairs_in_order(factors)
+    every = all_groupings(1, factors)
+    return [(None, None)] + pairs[::1 + len(pairs) // 25] + [(None, high) for high in every[::1 + len(every) // 8]] + [
+        (low, None) for low in every[::1 + len(every) // 8]]
+
+
+def brackets_of(grouping):
+    """The brackets of a grouping, as a set of Python."""
+    return {(start, reach) for join, start, reach in pairs_of(grouping)}
+
+
+def odd_things():
+    """Values of every kind that a thing may be, none of them a grouping of two factors or more, rows or marks."""
+    deep = 1
+    for _ in range(38):
+        deep = (deep, deep)
+    chain = ()
+    for _ in range(39):
+        chain = (chain,)
+    return [None, True, False, 2, -1, HUGE, -HUGE, "", "a", "ab" * 40, NoJoin(1), Unlike(), Between(1, 1), Prices(2), [],
+            [0], [1], [0, 1], [1, 0, 0], [[1, 2], 3], ([1, 2], 3), (1, [2, 3]), (True,), (False,), (None,), ("0",), ((),),
+            ((), ()), (1, 2, True), (1, (2, True)), (0, True), (0, HUGE), (HUGE,), (-1,), (0, -1), (0, 1, 3), (1, 1, 1, 1),
+            (NoJoin(1), 1), (0,) * 100000 + ("",), (1,) * 100000, deep, chain, (deep, chain), ((0, 1), [1, 0]),
+            ((0, True), (1, 0)), ((0, 2), None), ((0, 2), (HUGE, -HUGE)), (("0", "2"),), (((0, 2),),)]

@@ -49,6 +49,27 @@ INTERFACE = {
         "family_of(one, other)", "how_many_sets(factors, size)", "how_many_avoiding(factors, brackets)",
         "one_avoiding(factors, brackets)",
     ),
+    "values": (
+        "is_table(thing)", "is_rising(table)", "value_of(grouping, table, values)", "teller()",
+        "telling_values(one, other)", "is_telling(one, other, thing)", "values_by(table, values, low=None, high=None)",
+        "grouping_with(table, values, value, low=None, high=None)", "signs(grouping)", "how_many_signed(row)",
+        "nth_signed(row, number)", "minus_ends(numbers, low=None, high=None)",
+        "minus_groupings(numbers, low=None, high=None)",
+    ),
+    "pictures": (
+        "right_depths(grouping)", "left_depths(grouping)", "depths(grouping)", "is_right_depths(thing)",
+        "is_left_depths(thing)", "is_depths(thing)", "of_right_depths(row)", "of_depths(row)", "diagonals(grouping)",
+        "triangles(grouping)", "ears(grouping)", "is_diagonals(factors, thing)", "of_diagonals(factors, pairs)",
+        "turned(grouping, times)", "turns_back(grouping)", "marks(grouping)", "is_marks(thing)", "of_marks(row)",
+        "marks_place(row)",
+    ),
+    "logs": (
+        "can_be(factors, log)", "first_wrong(factors, log)", "is_history(factors, log, thing)", "earliest(factors, log)",
+        "latest(factors, log)", "many_at(factors, log, moment)", "can_be_at(factors, log, moment, grouping)",
+        "history_with(factors, log, moment, grouping)", "sure_at(factors, log, moment)",
+        "moments_of(factors, log, bracket)", "settled(factors, log)", "needless(factors, log)",
+        "how_many_histories(factors, log)", "steps_of_log(factors, log)",
+    ),
 }
 
 # For each class: its file, its properties without setters, its methods. The names of the parameters
@@ -65,6 +86,11 @@ CLASSES = {
         "mean(self, low=None, high=None)", "how_many(self, low=None, high=None)",
         "cheapest(self, number=0, low=None, high=None)", "is_cheapest(self, thing, low=None, high=None)",
         "lowest_pass(self, one, goal)", "pass_route(self, one, goal)", "falling_route(self, one, goal)",
+        "__eq__(self, other)",
+    )),
+    "Finder": ("finder", ("factors", "answers", "left", "known", "doubtful", "found"), (
+        "__init__(self, factors)", "how_many_with(self, bracket)", "share(self, bracket)", "has(self, thing)",
+        "ask(self)", "answer(self, bracket, here)", "back(self)", "twin(self)", "__len__", "__getitem__", "__iter__",
         "__eq__(self, other)",
     )),
 }

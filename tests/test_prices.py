@@ -14,8 +14,8 @@ from regroups.prices import Prices
 from regroups.routes import is_route, most_steps, route
 from tests.examples import check_raises, run_examples
 from tests.samples import (
-    all_groupings, as_lists, factors_of, halved, large_groupings, large_pairs, led_to, lists_mixed_in, nexts_of,
-    pairs_in_order, pairs_of, routes_between, small_groupings, steps_of,
+    all_groupings, as_lists, halved, large_groupings, large_pairs, led_to, lists_mixed_in, meant, nexts_of,
+    pairs_in_order, pairs_of, place_of, routes_between, small_groupings, some_ends, steps_of,
 )
 
 EXAMPLES = """
@@ -67,30 +67,9 @@ def price_of(grouping, sizes, weights, brackets):
     return found
 
 
-def place_of(part):
-    """What tells the place of a grouping in the order by outermost joins."""
-    if isinstance(part, int):
-        return ()
-    return factors_of(part[0])[-1], place_of(part[0]), place_of(part[1])
-
-
 def fraction_of(part, whole):
     own = Fraction(part, whole)
     return own.numerator, own.denominator
-
-
-def meant(low, high, factors):
-    every = all_groupings(1, factors)
-    return [grouping for grouping in every
-            if (low is None or grouping in led_to(low)) and (high is None or high in led_to(grouping))]
-
-
-def some_ends(factors):
-    """Pairs (low, high), each maybe None, for which something is meant."""
-    pairs = pairs_in_order(factors)
-    every = all_groupings(1, factors)
-    return [(None, None)] + pairs[::1 + len(pairs) // 25] + [(None, high) for high in every[::1 + len(every) // 8]] + [
-        (low, None) for low in every[::1 + len(every) // 8]]
 
 
 def tried():
