@@ -201,8 +201,8 @@ def odd_things():
     chain = ()
     for _ in range(39):
         chain = (chain,)
-    return [None, True, False, 2, -1, HUGE, -HUGE, "", "a", "ab" * 40, NoJoin(1), Unlike(), Between(1, 1), Prices(2), [],
-            [0], [1], [0, 1], [1, 0, 0], [[1, 2], 3], ([1, 2], 3), (1, [2, 3]), (True,), (False,), (None,), ("0",), ((),),
-            ((), ()), (1, 2, True), (1, (2, True)), (0, True), (0, HUGE), (HUGE,), (-1,), (0, -1), (0, 1, 3), (1, 1, 1, 1),
-            (NoJoin(1), 1), (0,) * 100000 + ("",), (1,) * 100000, deep, chain, (deep, chain), ((0, 1), [1, 0]),
-            ((0, True), (1, 0)), ((0, 2), None), ((0, 2), (HUGE, -HUGE)), (("0", "2"),), (((0, 2),),)]
+    return [None, True, False, 2, -1, HUGE, -HUGE, "", "a", "ab" * 40, NoJoin(1), Unlike(), Between(1, 1), Prices(2),
+            [], [0], [1], [0, 1], [1, 0, 0], [[1, 2], 3], ([1, 2], 3), (1, [2, 3]), (True,), (False,), (None,), ("0",),
+            ((),), ((), ()), (1, 2, True), (1, (2, True)), (0, True), (0, HUGE), (HUGE,), (-1,), (0, -1), (0, 1, 3),
+            (1, 1, 1, -1), (NoJoin(1), 1), (0,) * 100000 + ("",), (0,) * 100000, deep, chain, (deep, chain),
+            ((0, 1), [1, 0]), ((0, True), (1, 0)), ((0, 2), None), ((0, 2), (HUGE, -HUGE)), (("0", "2"),), (((0, 2),),)]

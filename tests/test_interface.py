@@ -70,6 +70,11 @@ INTERFACE = {
         "moments_of(factors, log, bracket)", "settled(factors, log)", "needless(factors, log)",
         "how_many_histories(factors, log)", "steps_of_log(factors, log)",
     ),
+    "texts": (
+        "grouping_text(grouping)", "grouping_of(text)", "named_text(grouping, names)", "named_of(text)",
+        "reaches_text(rows)", "reaches_of(text)", "lines_text(groupings)", "lines_of(text)",
+    ),
+    "desk": ("answers(text)",),
 }
 
 # For each class: its file, its properties without setters, its methods. The names of the parameters
@@ -93,6 +98,17 @@ CLASSES = {
         "ask(self)", "answer(self, bracket, here)", "back(self)", "twin(self)", "__len__", "__getitem__", "__iter__",
         "__eq__(self, other)",
     )),
+    "Routes": ("counted", ("start", "end", "many", "lengths", "average"), (
+        "__init__(self, one, other)", "through(self, grouping)", "share(self, grouping)", "sure(self)",
+        "rank(self, joins)", "beginning(self, joins)", "__getitem__", "__contains__", "__iter__", "__eq__(self, other)",
+    )),
+    "Product": ("product", ("names", "grouping", "deeds"), (
+        "__init__(self, names, grouping=None)", "step(self, join)", "unstep(self, join)",
+        "swap_in(self, name, names, grouping=None)", "take_out(self, name)", "undo(self)", "together(self, name, mate)",
+        "depth(self, name)", "leads_to(self, other)", "twin(self)", "__getitem__", "__contains__", "__len__", "__iter__",
+        "__eq__(self, other)",
+    )),
+    "Desk": ("desk", ("now",), ("__init__(self, factors)", "answer(self, request)", "__len__")),
 }
 
 
