@@ -98,12 +98,9 @@ class Finder:
         raise TypeError("a Finder can not be gone through")
 
     def __eq__(self, other):
-        if not isinstance(other, Finder) or self._factors != other._factors:
-            return False
         # The same ones are left if none of either goes against the answers of the other.
-        barred = _barred_by(self._factors, self._answers + other._answers)
-        both = ways_without(self._factors, barred)[1][self._factors]
-        return self.left == both and other.left == both
+        return (isinstance(other, Finder) and self._factors == other._factors and self.left == other.left
+                and self.left == _how_many_left(self._factors, self._answers + other._answers))
 
     def _keep(self, answers):
         """Take these for all answers; raise Gainsaid if none would be left."""
@@ -121,6 +118,11 @@ class Finder:
         """List all brackets that there can be, in ascending order."""
         return [(first, last) for first in range(1, self._factors)
                 for last in range(first + 1, self._factors + 1)]
+
+
+def _how_many_left(factors, answers):
+    """Count those that go with the answers."""
+    return ways_without(factors, _barred_by(factors, answers))[1][factors]
 
 
 def _barred_by(factors, answers):

@@ -148,6 +148,25 @@ class LanguageTest(unittest.TestCase):
             self.assertEqual(properties & set(dir(value)), set())
         self.assertNotIn("keys", methods | stored)
 
+    def test_what_compares_and_measures_is_one_return(self):
+        for path in package_files():
+            for node in nodes_of(path):
+                if isinstance(node, ast.FunctionDef) and node.name in ("__eq__", "__len__"):
+                    self.assertEqual([type(row) for row in node.body], [ast.Return], path.name)
+                if isinstance(node, ast.ClassDef):
+                    names = [row.name for row in node.body if isinstance(row, ast.FunctionDef)]
+                    self.assertEqual("__getitem__" in names and "__iter__" not in names, False, path.name)
+
+    def test_generators_are_gone_through_at_once(self):
+        generators = {own.name for path in package_files() for own in nodes_of(path)
+                      if isinstance(own, ast.FunctionDef) and any(isinstance(row, ast.Yield) for row in ast.walk(own))}
+        for path in package_files():
+            nodes = nodes_of(path)
+            heads = [id(node.iter) for node in nodes if isinstance(node, ast.For)]
+            for node in nodes:
+                if isinstance(node, ast.Call) and getattr(node.func, "id", None) in generators:
+                    self.assertIn(id(node), heads, path.name)
+
     def test_words(self):
         for path in package_files():
             for node in nodes_of(path):

@@ -223,6 +223,15 @@ class LargerOnesTest(unittest.TestCase):
         self.assertEqual(steps_of_log(6, log), (fewest_steps(left, middle) + fewest_steps(middle, right),
                                                 most_steps(left, middle) + most_steps(middle, right)))
 
+    def test_a_way_with_fewer_steps_may_be_found_later(self):
+        for factors, log in ((5, (((1, 4),), ((4, 5),), ((2, 3),))),
+                             (6, (((1, 2),), ((2, 5),), ((4, 6),), ((2, 6), (5, 6))))):
+            every = histories_of(factors, log)
+            fewest = min(sum(fewest_steps(near, far) for near, far in zip(row, row[1:])) for row in every)
+            most = max(sum(most_steps(near, far) for near, far in zip(row, row[1:])) for row in every)
+            self.assertEqual(steps_of_log(factors, log), (fewest, most))
+            self.assertEqual(how_many_histories(factors, log), len(every))
+
     def test_thirty_factors(self):
         for seed, grouping in enumerate([grouping for grouping in large_groupings() if factors_in(grouping) == 30]):
             rows = [grouping]
