@@ -11,7 +11,8 @@ from regroups.product import Product
 from regroups.steps import back_joins, step_at, step_back
 from tests.examples import check_raises, run_examples
 from tests.samples import (
-    HUGE, as_lists, factors_of, halved, large_groupings, lists_mixed_in, odd_things, pairs_of, small_groupings, steps_of,
+    HUGE, as_lists, factors_of, halved, large_groupings, lists_mixed_in, odd_things, pairs_in_order, pairs_of,
+    small_groupings, steps_of,
 )
 
 EXAMPLES = """
@@ -146,6 +147,21 @@ class DeedsTest(unittest.TestCase):
                 self.assertEqual(product.names, names[:at - 1] + names[at:])
                 self.assertIs(name in product, False)
                 self.assertEqual((product.undo(), product.names), (grouping, names))
+
+    def test_the_order_is_kept(self):
+        for factors in range(2, 5):
+            names = names_for(factors)
+            for one, other in pairs_in_order(factors):
+                for name in names:
+                    near, far = Product(names, one), Product(names, other)
+                    near.swap_in(name, ("x", "y", "z"), ((1, 2), 3))
+                    far.swap_in(name, ("x", "y", "z"), (1, (2, 3)))
+                    self.assertIs(near.leads_to(far), True)
+                    self.assertIs(far.leads_to(near), False)
+                    for product in (near, far):
+                        product.take_out(product.names[0])
+                        product.take_out(product.names[-1])
+                    self.assertIs(near.leads_to(far), True)
 
     def test_until_the_last_one(self):
         product = Product(names_for(30), halved(1, 30))
