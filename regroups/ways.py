@@ -132,9 +132,10 @@ def _step_ways(lows, highs, within, first, last):
 
 def ways_without(factors, barred):
     """Count, at [first][last], the groupings of these factors alone that have none of the barred brackets."""
-    ways = [[0] * (factors + 1) for _ in range(factors + 1)]
+    empty = [0] * (factors + 1)
+    ways = [list(empty) for _ in range(factors + 1)]
     # The same at [last][first], so that operands that end together stand in one row, too.
-    columns = [[0] * (factors + 1) for _ in range(factors + 1)]
+    columns = [list(empty) for _ in range(factors + 1)]
     for first in range(factors, 0, -1):
         ways[first][first] = columns[first][first] = 1
         for last in range(first + 1, factors + 1):
