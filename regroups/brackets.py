@@ -32,10 +32,10 @@ def is_brackets(factors, thing):
 
 def crossing(brackets):
     """Tell the first bracket that one ahead of it crosses, behind the first one that does; None if there is none."""
-    for at, other in enumerate(brackets):
-        for one in brackets[:at]:
-            if _cross(one, other):
-                return tuple(one), tuple(other)
+    for at, (first, last) in enumerate(brackets):
+        for begin, end in brackets[:at]:
+            if begin < first <= end < last or first < begin <= last < end:
+                return (begin, end), (first, last)
     return None
 
 
@@ -174,12 +174,6 @@ def _is_bracket(factors, pair):
         return False
     first, last = pair
     return is_number(first) and is_number(last) and 1 <= first < last <= factors
-
-
-def _cross(one, other):
-    """Tell whether two brackets have a factor in common, and neither lies within the other one."""
-    near, far = sorted([tuple(one), tuple(other)])
-    return near[0] < far[0] <= near[1] < far[1]
 
 
 def _stretches(span, spans):

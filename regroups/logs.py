@@ -1,12 +1,13 @@
 """What was seen in time: histories of a product that go with brackets seen at some moments."""
 
-from regroups.brackets import between_having, check_brackets, has_all, last_having, next_having, sure_between
+from regroups.brackets import check_brackets
 from regroups.errors import Unlike
-from regroups.groupings import factors_in, from_left, from_right, is_grouping, of_reaches, reaches
-from regroups.order import is_between, leads_to, none_greater
+from regroups.groupings import factors_in, is_grouping, of_reaches, reaches
+from regroups.order import none_greater
 from regroups.parts import check_factors
-from regroups.rows import steps_between
-from regroups.ways import ways_within
+from regroups.rows import moves_between, pairs_of_rows
+from regroups.seen import all_have, greatest_seen, have_all, least_seen, places_with, some_have
+from regroups.ways import many_within
 
 
 def can_be(factors, log):
@@ -16,7 +17,7 @@ def can_be(factors, log):
 
 def first_wrong(factors, log):
     """Tell the least moment up to which there is no history, None if there is one."""
-    moment = len(_first_ones(factors, log))
+    moment = len(_lows(factors, log))
     return moment if moment < len(log) else None
 
 
@@ -27,54 +28,55 @@ def is_history(factors, log, thing):
         return False
     if not all([is_grouping(grouping) and factors_in(grouping) == factors for grouping in thing]):
         return False
-    if not all([has_all(grouping, sight) for grouping, sight in zip(thing, log)]):
+    found = [reaches(grouping) for grouping in thing]
+    if not all([have_all(rows, sight) for rows, sight in zip(found, log)]):
         return False
-    return all([leads_to(near, far) for near, far in zip(thing, thing[1:])])
+    return all([none_greater(near, far) for near, far in zip(found, found[1:])])
 
 
 def earliest(factors, log):
     """Make the history whose groupings lead to those of all others; None if there is none."""
-    found = _first_ones(factors, log)
-    return tuple(found) if len(found) == len(log) else None
+    lows = _lows(factors, log)
+    return _groupings_of(lows) if len(lows) == len(log) else None
 
 
 def latest(factors, log):
     """Make the history to whose groupings those of all others lead; None if there is none."""
-    return tuple(_last_ones(factors, log)) if can_be(factors, log) else None
+    ends = _ends(factors, log)
+    return None if ends is None else _groupings_of([high for low, high in ends])
 
 
 def many_at(factors, log, moment):
     """Count the groupings that histories have at this moment."""
-    ends = _ends(factors, log)
-    if ends is None:
-        return 0
-    low, high = ends[moment]
-    return ways_within(reaches(low), reaches(high))[1][factors]
+    ends = _ends_at(factors, log, moment)
+    return 0 if ends is None else many_within(ends[0], ends[1])
 
 
 def can_be_at(factors, log, moment, grouping):
     """Tell whether histories have this grouping at the moment."""
-    ends = _ends(factors, log)
+    ends = _ends_at(factors, log, moment)
     if factors_in(grouping) != factors:
         raise Unlike()
-    return ends is not None and is_between(ends[moment][0], grouping, ends[moment][1])
+    return ends is not None and _is_between(ends, reaches(grouping))
 
 
 def history_with(factors, log, moment, grouping):
     """Make a history with this grouping at the moment, None if there is none."""
     if not can_be_at(factors, log, moment, grouping):
         return None
-    # Made anew, so that lists that were handed in do not come back.
-    found = _first_ones(factors, log)[:moment] + [of_reaches(reaches(grouping))]
-    for sight in log[moment + 1:]:
-        found.append(next_having(found[-1], sight))
-    return tuple(found)
+    rows = reaches(grouping)
+    ahead, behind = least_seen(_least_of(factors), log[:moment]), least_seen(rows, log[moment + 1:])
+    return _groupings_of(ahead + [rows] + behind)
 
 
 def sure_at(factors, log, moment):
     """Tell the set of the brackets that all histories have at this moment, None if there is none."""
-    ends = _ends(factors, log)
-    return None if ends is None else sure_between(ends[moment][0], ends[moment][1])
+    ends = _ends_at(factors, log, moment)
+    if ends is None:
+        return None
+    low, high = ends
+    spans = sorted([(first, last) for first, join, last in pairs_of_rows(low)])
+    return tuple([(first, last) for first, last in spans if all_have(low, high, first, last)])
 
 
 def moments_of(factors, log, bracket):
@@ -83,18 +85,16 @@ def moments_of(factors, log, bracket):
     check_factors(factors, bracket)
     if ends is None:
         return None
-    sure = [moment for moment, (low, high) in enumerate(ends)
-            if has_all(low, (bracket,)) and has_all(high, (bracket,))]
-    possible = [moment for moment, (low, high) in enumerate(ends) if between_having(low, high, (bracket,)) is not None]
+    first, last = bracket
+    sure = [moment for moment, (low, high) in enumerate(ends) if all_have(low, high, first, last)]
+    possible = [moment for moment, (low, high) in enumerate(ends) if some_have(low, high, first, last)]
     return tuple(sure), tuple(possible)
 
 
 def settled(factors, log):
     """Tell the set of the moments at which all histories have the same grouping, None if there is none."""
     ends = _ends(factors, log)
-    if ends is None:
-        return None
-    return tuple([moment for moment, (low, high) in enumerate(ends) if reaches(low) == reaches(high)])
+    return None if ends is None else tuple([moment for moment, (low, high) in enumerate(ends) if low == high])
 
 
 def needless(factors, log):
@@ -103,48 +103,44 @@ def needless(factors, log):
     if ends is None:
         return None
     # Without the sight all can have been there that lie between the one ahead of it and the one behind it.
-    lows = [from_left(factors)] + [low for low, high in ends[:-1]]
-    highs = [high for low, high in ends[1:]] + [from_right(factors)]
+    lows = [_least_of(factors)] + [low for low, high in ends[:-1]]
+    highs = [high for low, high in ends[1:]] + [_greatest_of(factors)]
     return tuple([moment for moment, sight in enumerate(log)
-                  if has_all(lows[moment], sight) and has_all(highs[moment], sight)])
+                  if all([all_have(lows[moment], highs[moment], first, last) for first, last in sight])])
 
 
 def how_many_histories(factors, log):
     """Count the histories."""
-    ends = _ends(factors, log)
-    if ends is None:
+    found = _moves_of(factors, log)
+    if found is None:
         return 0
-    every = _all_behind(factors)
-    counts = {rows: 1 for rows in _rows_between(every, ends[0])}
-    for own_ends in ends[1:]:
-        found = {rows: 0 for rows in _rows_between(every, own_ends)}
-        for rows in counts:
-            for behind in every[rows]:
-                if behind in found:
-                    found[behind] = found[behind] + counts[rows]
-        counts = found
-    return sum([counts[rows] for rows in counts])
+    every, moves = found
+    counts = _kept([1] * len(every), places_with(every, log[0]), 0)
+    for sight in log[1:]:
+        # From one to each to which it leads there is just one row of steps by ascending joins.
+        for steps in moves:
+            for ahead, behind in steps:
+                counts[behind] = counts[behind] + counts[ahead]
+        counts = _kept(counts, places_with(every, sight), 0)
+    return sum(counts)
 
 
 def steps_of_log(factors, log):
     """Tell the least and the greatest number of steps from the first moment to the last one, None if there is none."""
-    ends = _ends(factors, log)
-    if ends is None:
+    found = _moves_of(factors, log)
+    if found is None:
         return None
-    steps = steps_between(reaches(from_left(factors)), reaches(from_right(factors)))
-    fewest = {rows: 0 for rows in _rows_between(steps, ends[0])}
-    most = {rows: 0 for rows in fewest}
-    for own_ends in ends[1:]:
-        # Those ahead of others come first.
-        for rows in steps:
-            if rows in fewest:
-                for join, behind in steps[rows]:
-                    fewest[behind] = min(fewest[rows] + 1, fewest.get(behind, fewest[rows] + 1))
-                    most[behind] = max(most[rows] + 1, most.get(behind, 0))
-        here = [rows for rows in _rows_between(steps, own_ends) if rows in fewest]
-        fewest = {rows: fewest[rows] for rows in here}
-        most = {rows: most[rows] for rows in here}
-    return min([fewest[rows] for rows in fewest]), max([most[rows] for rows in most])
+    every, moves = found
+    # In this order the steps to one come ahead of those from it.
+    steps = sorted([pair for row in moves for pair in row])
+    never = factors * factors
+    here = places_with(every, log[0])
+    fewest, most = _kept([0] * len(every), here, never), [0] * len(every)
+    for sight in log[1:]:
+        _take(steps, fewest, most, never)
+        here = places_with(every, sight)
+        fewest, most = _kept(fewest, here, never), _kept(most, here, 0)
+    return min(fewest), max(most)
 
 
 def _check_log(factors, log):
@@ -153,44 +149,67 @@ def _check_log(factors, log):
         check_brackets(factors, sight)
 
 
-def _first_ones(factors, log):
-    """List the least grouping that can have been there at each moment, up to the first for which there is none."""
+def _least_of(factors):
+    return list(range(2, factors + 1))
+
+
+def _greatest_of(factors):
+    return [factors] * (factors - 1)
+
+
+def _lows(factors, log):
+    """List the least reaches that can have been there at each moment, up to the first for which there are none."""
     _check_log(factors, log)
-    found = [from_left(factors)]
-    for sight in log:
-        behind = next_having(found[-1], sight)
-        if behind is None:
-            return found[1:]
-        found.append(behind)
-    return found[1:]
-
-
-def _last_ones(factors, log):
-    """List the greatest grouping that can have been there at each moment, if there is a history."""
-    found = [from_right(factors)]
-    for sight in log[::-1]:
-        found.append(last_having(found[-1], sight))
-    return found[:0:-1]
+    return least_seen(_least_of(factors), log)
 
 
 def _ends(factors, log):
-    """List for each moment the least and the greatest grouping there can have been, None if there is no history."""
-    lows = _first_ones(factors, log)
-    return list(zip(lows, _last_ones(factors, log))) if len(lows) == len(log) else None
+    """List for each moment the least and the greatest reaches there can have been, None if there is no history."""
+    lows = _lows(factors, log)
+    return list(zip(lows, greatest_seen(_greatest_of(factors), log))) if len(lows) == len(log) else None
 
 
-def _rows_between(every, ends):
-    """List those of all reaches that lie between those of the two."""
-    low, high = reaches(ends[0]), reaches(ends[1])
-    return [rows for rows in every if none_greater(low, rows) and none_greater(rows, high)]
+def _ends_at(factors, log, moment):
+    """Tell the least and the greatest reaches there can have been at this moment, None if there is no history."""
+    lows = _lows(factors, log)
+    if len(lows) < len(log):
+        return None
+    return lows[moment], greatest_seen(_greatest_of(factors), log[moment:])[0]
 
 
-def _all_behind(factors):
-    """Tell for all reaches those to which they lead, themselves among them."""
-    steps = steps_between(reaches(from_left(factors)), reaches(from_right(factors)))
-    found = {}
-    for rows in list(steps)[::-1]:
-        found[rows] = {rows: True}
-        for join, behind in steps[rows]:
-            found[rows].update(found[behind])
+def _is_between(ends, rows):
+    low, high = ends
+    return none_greater(low, rows) and none_greater(rows, high)
+
+
+def _groupings_of(found):
+    """Make the groupings with these reaches, those that stay the same just once."""
+    made = []
+    for at, rows in enumerate(found):
+        same = at > 0 and rows == found[at - 1]
+        made.append(made[-1] if same else of_reaches(rows))
+    return tuple(made)
+
+
+def _moves_of(factors, log):
+    """Tell all reaches between the least and the greatest of all, and the steps; None if there is no history."""
+    ends = _ends(factors, log)
+    return None if ends is None else moves_between(ends[0][0], ends[-1][1])
+
+
+def _kept(numbers, places, other):
+    """Make the list of the numbers at these places, and of the other one at all others."""
+    found = [other] * len(numbers)
+    for at in places:
+        found[at] = numbers[at]
     return found
+
+
+def _take(steps, fewest, most, never):
+    """Take these steps in order: let both lists tell the fewest and the most steps to all to which there are any."""
+    for ahead, behind in steps:
+        if fewest[ahead] < never:
+            if fewest[ahead] + 1 < fewest[behind]:
+                fewest[behind] = fewest[ahead] + 1
+            if most[ahead] + 1 > most[behind]:
+                most[behind] = most[ahead] + 1

@@ -51,6 +51,45 @@ def steps_between(near, far):
     return {rows: found[rows] for rows in sorted(found)}
 
 
+def moves_between(near, far):
+    """List all reaches between two, those ahead of others first, and for each join its steps from one to another one.
+
+    The steps are pairs of places in the list of the reaches.
+    """
+    # Behind the last join stands a reach that is too far for all joins.
+    every, moves = [(len(near) + 2,)], []
+    for join in range(len(near), 0, -1):
+        every, places = _with_join(every, join, near[join - 1], far[join - 1])
+        own = [(at - 1, at) for here in places for at in list(here.values())[1:]]
+        moves = [own] + [_moves_again(steps, places) for steps in moves]
+    return [rows[:-1] for rows in every], moves
+
+
+def _with_join(every, join, low, high):
+    """List what comes of all these reaches of the joins behind this one if its own, from low to high, stands ahead.
+
+    Tells, too, for each of those handed in the places of what comes of it, by the reach of the join, ascending.
+    """
+    found, places = [], []
+    for rows in every:
+        here = {}
+        reach = join + 1
+        while reach <= high:
+            if reach >= low:
+                here[reach] = len(found)
+                found.append((reach,) + rows)
+            # To reach farther it has to take in the whole right operand of the join called so.
+            reach = rows[reach - join - 1]
+        places.append(here)
+    return found, places
+
+
+def _moves_again(steps, places):
+    """List what comes of these steps if a join stands ahead, which is to have one reach on both sides of a step."""
+    return [(places[ahead][reach], places[behind][reach])
+            for ahead, behind in steps for reach in places[ahead] if reach in places[behind]]
+
+
 def pairs_of_rows(rows):
     """List (start, join, reach) for each join, in order."""
     found = []

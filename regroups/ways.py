@@ -22,6 +22,21 @@ def ways_within(lows, highs):
     return within
 
 
+def many_within(lows, highs):
+    """Count the groupings whose reaches keep to the bounds."""
+    factors = len(lows) + 1
+    # Each row is one number: for the stretches from one factor on it has the counts for all last factors, in so many
+    # bits each. No count needs more, so all those of a row are multiplied and added at once.
+    width = 2 * factors
+    part = (1 << width) - 1
+    rows = [0] * factors + [1 << (width * factors)]
+    for first in range(factors - 1, 0, -1):
+        inner = rows[first + 1]
+        ends = range(lows[first - 1], highs[first - 1] + 1)
+        rows[first] = (1 << (width * first)) + sum([((inner >> (width * end)) & part) * rows[end] for end in ends])
+    return rows[1] >> (width * factors)
+
+
 def ways_around(lows, highs, within):
     """Count, at [first][last], in how many ways all is bracketed around a part of just these factors."""
     factors = len(lows) + 1

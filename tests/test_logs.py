@@ -4,7 +4,9 @@ import unittest
 
 from regroups import logs
 from regroups.between import Between
-from regroups.brackets import greatest_having, least_having
+from regroups.brackets import (
+    between_having, greatest_having, has_all, last_having, least_having, next_having, sure_between,
+)
 from regroups.errors import Crossed, NoFactor, Unlike
 from regroups.groupings import brackets, factors_in, from_left, from_right, is_grouping
 from regroups.logs import (
@@ -277,6 +279,123 @@ class LargerOnesTest(unittest.TestCase):
             self.assertEqual(earliest(30, (sight,)), (least_having(30, sight),))
             self.assertEqual(latest(30, (sight,)), (greatest_having(30, sight),))
             self.assertEqual(needless(30, (sight,)), () if len(sight) > 1 else (0,))
+
+
+def walked_logs():
+    """(factors, log, a history of it) with many factors and many moments, some sights empty, some with all brackets."""
+    for seed, grouping in enumerate(large_groupings()):
+        rows = [grouping]
+        for step in (2, 0, 5, 1, 0, 12, 3, 40)[:1 + seed % 8]:
+            rows.append(walked_from(rows[-1], seed, step))
+        sights = [sorted(brackets_of(own))[(at + seed) % 4::1 + (at * 5 + seed) % 7] for at, own in enumerate(rows)]
+        yield factors_in(grouping), tuple(tuple(sight) if (at + seed) % 4 else () for at, sight in enumerate(sights)), rows
+
+
+class ByOtherFunctionsTest(unittest.TestCase):
+    """The same told by functions of regroups.brackets and by Between, from moment to moment."""
+
+    def ends_of(self, factors, log):
+        lows, highs = [from_left(factors)], [from_right(factors)]
+        for sight in log:
+            lows.append(next_having(lows[-1], sight))
+        for sight in log[::-1]:
+            highs.append(last_having(highs[-1], sight))
+        return tuple(lows[1:]), tuple(highs[:0:-1])
+
+    def test_many_factors(self):
+        for factors, log, rows in walked_logs():
+            lows, highs = self.ends_of(factors, log)
+            self.assertEqual((earliest(factors, log), latest(factors, log)), (lows, highs))
+            self.assertIs(is_history(factors, log, tuple(rows)), True)
+            same = [at for at, (low, high) in enumerate(zip(lows, highs)) if low == high]
+            self.assertEqual(settled(factors, log), tuple(same))
+            ahead, behind = (from_left(factors),) + lows[:-1], highs[1:] + (from_right(factors),)
+            idle = [at for at, sight in enumerate(log) if has_all(ahead[at], sight) and has_all(behind[at], sight)]
+            self.assertEqual(needless(factors, log), tuple(idle))
+            for at, own in enumerate(rows):
+                self.assertEqual(sure_at(factors, log, at), sure_between(lows[at], highs[at]))
+                self.assertEqual(many_at(factors, log, at), Between(lows[at], highs[at]).many)
+                wanted = lows[:at] + (own,)
+                for sight in log[at + 1:]:
+                    wanted += (next_having(wanted[-1], sight),)
+                self.assertIs(is_history(factors, log, wanted), True)
+                self.assertIs(is_history(factors, log, history_with(factors, log, at, own)), True)
+
+    def test_brackets_of_many_factors(self):
+        for factors, log, rows in list(walked_logs())[::4]:
+            lows, highs = self.ends_of(factors, log)
+            for bracket in every_bracket(factors)[::5]:
+                sure, possible = moments_of(factors, log, bracket)
+                here = list(zip(lows, highs))
+                self.assertEqual(sure, tuple(at for at, (low, high) in enumerate(here)
+                                             if has_all(low, (bracket,)) and has_all(high, (bracket,))))
+                self.assertEqual(possible, tuple(at for at, (low, high) in enumerate(here)
+                                                 if between_having(low, high, (bracket,)) is not None))
+
+    def test_others_can_not_have_been_there(self):
+        found = []
+        for factors, log, rows in walked_logs():
+            lows, highs = self.ends_of(factors, log)
+            for at in range(len(log)):
+                for own in (from_left(factors), from_right(factors), halved(1, factors), rows[0], rows[-1]):
+                    can = leads_to(lows[at], own) and leads_to(own, highs[at])
+                    self.assertIs(can_be_at(factors, log, at, own), can)
+                    self.assertIs(history_with(factors, log, at, own) is not None, can)
+                    found.append(can)
+        self.assertTrue(found.count(True) > 50 and found.count(False) > 50)
+
+    def test_first_wrong(self):
+        for factors, log, rows in walked_logs():
+            whole = tuple(brackets(own) for own in rows)
+            self.assertIsNone(first_wrong(factors, whole))
+            # Back again to the first one, if there was a step at all.
+            back = first_wrong(factors, whole + whole[:1] + log)
+            self.assertEqual(back, len(rows) if rows[-1] != rows[0] else first_wrong(factors, whole + log))
+            if back == len(rows):
+                for tell in (earliest, latest, settled, needless):
+                    self.assertIsNone(tell(factors, whole + whole[:1]))
+
+    def test_all_brackets_at_both_ends(self):
+        left, right = from_left(30), from_right(30)
+        log = (brackets(left), (), brackets(right)[::-1])
+        self.assertEqual((earliest(30, log), latest(30, log)), ((left, left, right), (left, right, right)))
+        self.assertEqual((needless(30, log), settled(30, log), first_wrong(30, log[::-1])), ((1,), (0, 2), 2))
+        check_raises(self, Crossed((1, 29), (29, 30)), lambda: can_be(30, ((), brackets(left) + ((29, 30),))))
+
+
+class SeveralFactorsTest(unittest.TestCase):
+    """How many histories and steps, told moment by moment from those that are led to."""
+
+    def logs_of(self, factors, seed):
+        every = all_groupings(1, factors)
+        rows = [every[0] if seed % 2 else from_left(factors)]
+        for at in range(seed % 7):
+            rows.append(walked_from(rows[-1], seed + at, (seed + at * at) % 4))
+        return tuple(tuple(sorted(brackets_of(own)))[(seed + at) % 5::2 + at % 2] for at, own in enumerate(rows))
+
+    def check(self, factors, log):
+        every = all_groupings(1, factors)
+        counts, least, most = {grouping: 1 for grouping in every}, dict.fromkeys(every, 0), dict.fromkeys(every, 0)
+        for at, sight in enumerate(log):
+            if at > 0:
+                ahead = {own: [one for one in counts if own in led_to(one)] for own in every}
+                least = {own: min(least[one] + fewest_steps(one, own) for one in ahead[own]) for own in every if ahead[own]}
+                most = {own: max(most[one] + most_steps(one, own) for one in ahead[own]) for own in every if ahead[own]}
+                counts = {own: sum(counts[one] for one in ahead[own]) for own in every if ahead[own]}
+            counts = {own: many for own, many in counts.items() if set(sight) <= brackets_of(own)}
+        self.assertEqual(how_many_histories(factors, log), sum(counts.values()))
+        if factors < 7:
+            wanted = (min(least[own] for own in counts), max(most[own] for own in counts)) if counts else None
+            self.assertEqual(steps_of_log(factors, log), wanted)
+        return len(counts)
+
+    def test_some_logs(self):
+        found = [self.check(factors, self.logs_of(factors, seed)) for factors in (5, 6) for seed in range(21)]
+        found += [self.check(7, self.logs_of(7, seed)) for seed in (3, 6)]
+        self.assertGreater(sum(many > 1 for many in found), 15)
+
+    def test_logs_without_a_history(self):
+        self.assertEqual([self.check(5, (((1, 4), (2, 4)), (), ((1, 2),))), self.check(6, (((2, 6),), ((1, 5),)))], [0, 0])
 
 
 class EdgesTest(unittest.TestCase):
